@@ -1,0 +1,40 @@
+// Package munch: tokens by patterns, out of packed tables: see DOC.md.
+package munch
+
+import (
+	"munch/api"
+	"munch/pattern"
+)
+
+// Lexer is what was loaded.
+type Lexer struct{}
+
+// Check tells whether a list of patterns is one, and if not, which pattern is wrong, and where (P3).
+func Check(patterns []string) (api.Errno, int, int) { return pattern.Check(patterns) }
+
+// Encode writes tables as a file (P5).
+func Encode(t api.Tables) (string, api.Errno) { return "", api.OK }
+
+// Load takes a file (P6).
+func Load(file string) (*Lexer, api.Errno) { return nil, api.OK }
+
+// Tables gives the tables of the file (P7).
+func (x *Lexer) Tables() api.Tables { return api.Tables{} }
+
+// Label tells the rule of a state (P7).
+func (x *Lexer) Label(state int) int { return 0 }
+
+// Step tells where a byte leads from a state (P7).
+func (x *Lexer) Step(state int, b int) int { return 0 }
+
+// Scan cuts a text into tokens (P8).
+func (x *Lexer) Scan(text string) ([]api.Token, api.Errno) { return nil, api.OK }
+
+// Build makes the least machine of a list of patterns (P9).
+func Build(patterns []string) (api.Machine, api.Errno) { return api.Machine{}, api.OK }
+
+// Pack packs a machine's rows (P10).
+func Pack(m api.Machine) (api.Tables, api.Errno) { return api.Tables{}, api.OK }
+
+// Generate makes a file of a list of patterns (P11).
+func Generate(patterns []string) (string, api.Errno) { return "", api.OK }
