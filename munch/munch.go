@@ -3,32 +3,43 @@ package munch
 
 import (
 	"munch/api"
+	"munch/codec"
 	"munch/pattern"
+	"munch/scan"
+	"munch/table"
 )
 
 // Lexer is what was loaded.
-type Lexer struct{}
+type Lexer struct {
+	tables api.Tables // sound
+}
 
 // Check tells whether a list of patterns is one, and if not, which pattern is wrong, and where (P3).
 func Check(patterns []string) (api.Errno, int, int) { return pattern.Check(patterns) }
 
 // Encode writes tables as a file (P5).
-func Encode(t api.Tables) (string, api.Errno) { return "", api.OK }
+func Encode(t api.Tables) (string, api.Errno) { return codec.Encode(&t) }
 
 // Load takes a file (P6).
-func Load(file string) (*Lexer, api.Errno) { return nil, api.OK }
+func Load(file string) (*Lexer, api.Errno) {
+	t, e := codec.Decode(file)
+	if e != api.OK {
+		return nil, e
+	}
+	return &Lexer{tables: t}, api.OK
+}
 
 // Tables gives the tables of the file (P7).
-func (x *Lexer) Tables() api.Tables { return api.Tables{} }
+func (x *Lexer) Tables() api.Tables { return table.Copy(&x.tables) }
 
 // Label tells the rule of a state (P7).
-func (x *Lexer) Label(state int) int { return 0 }
+func (x *Lexer) Label(state int) int { return table.Label(&x.tables, state) }
 
 // Step tells where a byte leads from a state (P7).
-func (x *Lexer) Step(state int, b int) int { return 0 }
+func (x *Lexer) Step(state int, b int) int { return table.Step(&x.tables, state, b) }
 
 // Scan cuts a text into tokens (P8).
-func (x *Lexer) Scan(text string) ([]api.Token, api.Errno) { return nil, api.OK }
+func (x *Lexer) Scan(text string) ([]api.Token, api.Errno) { return scan.Cut(&x.tables, text) }
 
 // Build makes the least machine of a list of patterns (P9).
 func Build(patterns []string) (api.Machine, api.Errno) { return api.Machine{}, api.OK }
