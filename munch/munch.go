@@ -4,6 +4,7 @@ package munch
 import (
 	"munch/api"
 	"munch/codec"
+	"munch/machine"
 	"munch/pattern"
 	"munch/scan"
 	"munch/table"
@@ -42,7 +43,7 @@ func (x *Lexer) Step(state int, b int) int { return table.Step(&x.tables, state,
 func (x *Lexer) Scan(text string) ([]api.Token, api.Errno) { return scan.Cut(&x.tables, text) }
 
 // Build makes the least machine of a list of patterns (P9).
-func Build(patterns []string) (api.Machine, api.Errno) { return api.Machine{}, api.OK }
+func Build(patterns []string) (api.Machine, api.Errno) { return machine.Build(patterns) }
 
 // Pack packs a machine's rows (P10).
 func Pack(m api.Machine) (api.Tables, api.Errno) { return api.Tables{}, api.OK }

@@ -6,12 +6,7 @@ import "munch/api"
 func tooDeep(parts []Part) int {
 	open := 0
 	for _, part := range parts {
-		switch part.Kind {
-		case Open:
-			open++
-		case Shut:
-			open--
-		}
+		open += Opens(part.Kind)
 		if open > api.MaxDeep {
 			return part.At
 		}
@@ -71,8 +66,8 @@ func capped(places int) int {
 	return places
 }
 
-// countPlaces answers how many places the pattern of these parts has when it is written out, or MaxPlaces + 1 if there are more.
-func countPlaces(parts []Part) int {
+// CountPlaces answers how many places the pattern of these parts has when it is written out, or MaxPlaces + 1 if there are more.
+func CountPlaces(parts []Part) int {
 	var outer []int // of each open parenthesis: the places ahead of it, back to the one around it
 	ahead := 0      // behind the last open one: the places ahead of the last piece
 	last := 0       // the places of the last piece, which a count would multiply
@@ -114,7 +109,7 @@ func Check(patterns []string) (api.Errno, int, int) {
 		if e != api.OK {
 			return e, rule, at
 		}
-		places += countPlaces(parts)
+		places += CountPlaces(parts)
 	}
 	if places > api.MaxPlaces {
 		return api.ErrPlaces, 0, 0

@@ -98,7 +98,7 @@ func TestCountPlaces(t *testing.T) {
 		{"", 0}, {"a{3}[bc]{0,2}", 5}, {"(a{3}b){2}", 8}, {"a{0}", 0}, {"a|b|", 2}, {"((a)(b|c)d)*", 4}, {"a{9}{9}", 81}, {"a{8}{6}{2}", 96}, {"a{9}{9}{2}", 97}, {"a{9}{9}{9}{9}{0}b", 1},
 	} {
 		parts := parse(t, c.p)
-		if got := countPlaces(parts); got != c.want {
+		if got := CountPlaces(parts); got != c.want {
 			t.Errorf("%q has %d places, want %d", c.p, got, c.want)
 		}
 	}

@@ -53,7 +53,8 @@ func kindOf(b int) Kind {
 	return Place
 }
 
-func isSuffix(kind Kind) bool {
+// IsSuffix tells whether a part of that kind belongs to the piece ahead of it.
+func IsSuffix(kind Kind) bool {
 	switch kind {
 	case Star, Plus, Maybe, Count:
 		return true
@@ -61,9 +62,20 @@ func isSuffix(kind Kind) bool {
 	return false
 }
 
+// Opens answers by how many more parentheses are open behind a part of that kind than ahead of it.
+func Opens(kind Kind) int {
+	switch kind {
+	case Open:
+		return 1
+	case Shut:
+		return -1
+	}
+	return 0
+}
+
 // endsPiece tells whether a suffix may stand behind a part of that kind.
 func endsPiece(kind Kind) bool {
-	return kind == Place || kind == Shut || isSuffix(kind)
+	return kind == Place || kind == Shut || IsSuffix(kind)
 }
 
 // canStand tells whether a part of that kind may stand behind one of the kind before (Wrong at the beginning), with so many parentheses open.
@@ -74,7 +86,7 @@ func canStand(kind Kind, before Kind, open int) bool {
 	if kind == Shut {
 		return open > 0
 	}
-	if isSuffix(kind) {
+	if IsSuffix(kind) {
 		return endsPiece(before)
 	}
 	return true
@@ -170,12 +182,7 @@ func readParts(p string) ([]Part, int, bool) {
 			return nil, end, false
 		}
 		parts = append(parts, part)
-		switch kind {
-		case Open:
-			open++
-		case Shut:
-			open--
-		}
+		open += Opens(kind)
 		before = kind
 		at = end
 	}
