@@ -306,8 +306,9 @@ func TestP9SeveralRules(t *testing.T) {
 	}
 }
 
-func TestP9SameTexts(t *testing.T) {
-	for _, l := range [][]string{
+// sameTexts are patterns that match the same texts, list by list.
+func sameTexts() [][]string {
+	return [][]string{
 		list("a|b", "b|a", "[ab]", "[a-b]", "[ba]", "(a|b)", `\x61|b`, "a{1}|b", "a|b|a", "(a|(b))", "[ab]{1,1}", "(a|b){1}a{0}"),
 		list("a*", "(a*)*", "(a+)?", "(|a)*", "a*a*", "(a|aa)*", "a?a*", "a{0,9}a*", "(a?)+", "a*{9}", "a**", "(aa)*a?", "|a+"),
 		list("(a|b)*", "(a*b*)*", "(a*b)*a*", "a*(ba*)*", "(b|a)*", "[ab]*", "([ab]{2})*[ab]?", "([ab]{0,3})*"),
@@ -317,7 +318,11 @@ func TestP9SameTexts(t *testing.T) {
 		list(".", `[^\n]`, `[\x00-\x09\x0b-\xff]`, `[^\x0a]`, "[^\n]", ".|a"),
 		list("a[bc]d", "abd|acd", "a(b|c)d", "(ab|ac)d", "a(bd|cd)"),
 		list("(a|b)*abb", "[ab]*abb", "(b|a+b(ab)*(a+b(ab)*)*a?)*abb|[ab]*abb", "(a|b)*(a|b)*abb", "([ab]*a)bb"),
-	} {
+	}
+}
+
+func TestP9SameTexts(t *testing.T) {
+	for _, l := range sameTexts() {
 		for _, others := range [][]string{list(), list("a?x"), list(".", "ab*")} {
 			behind := built(t, append(list(l[0]), others...)...)
 			ahead := built(t, append(others[:len(others):len(others)], l[0])...)

@@ -8,19 +8,24 @@ import (
 	"munch/api"
 )
 
-// inOneRoom lays the lists of tables one behind the other into one array, with spare room behind each that runs on into the next list.
-func inOneRoom(t api.Tables) (api.Tables, []int) {
+// layInOneRoom lays lists one behind the other into one array, with spare room behind each that runs on into the next list.
+func layInOneRoom(lists []*[]int) []int {
 	var room []int
-	for _, l := range listsOf(&t) {
+	for _, l := range lists {
 		room = append(room, *l...)
 		room = append(room, 71, 72, 73)
 	}
 	at := 0
-	for _, l := range listsOf(&t) {
+	for _, l := range lists {
 		n := len(*l)
 		*l = room[at : at+n]
 		at += n + 3
 	}
+	return room
+}
+
+func inOneRoom(t api.Tables) (api.Tables, []int) {
+	room := layInOneRoom(listsOf(&t))
 	return t, room
 }
 

@@ -99,27 +99,32 @@ func TestP2BuildHangsOnItsArgumentAlone(t *testing.T) {
 	}
 }
 
-// TestP1AnyPatterns hands in strings of any bytes, and patterns of which some bytes are turned.
+// anyPatterns are patterns of which some bytes are turned, and strings of any bytes.
+func anyPatterns(r *rand.Rand) []string {
+	marks := `\.[](){}|*+?^-ab0,9xnf`
+	var patterns []string
+	for range r.Intn(10) {
+		p := []byte(scribble(r, 1+r.Intn(8)))
+		for range r.Intn(3) {
+			p[r.Intn(len(p))] = marks[r.Intn(len(marks))]
+		}
+		if r.Intn(30) == 0 {
+			p[r.Intn(len(p))] = byte(r.Intn(256))
+		}
+		if r.Intn(30) == 0 {
+			p = make([]byte, r.Intn(50))
+			r.Read(p)
+		}
+		patterns = append(patterns, string(p))
+	}
+	return patterns
+}
+
 func TestP1AnyPatterns(t *testing.T) {
 	r := rand.New(rand.NewSource(11))
-	marks := `\.[](){}|*+?^-ab0,9xnf`
 	seen := map[api.Errno]int{}
 	for range 30000 {
-		var patterns []string
-		for range r.Intn(10) {
-			p := []byte(scribble(r, 1+r.Intn(8)))
-			for range r.Intn(3) {
-				p[r.Intn(len(p))] = marks[r.Intn(len(marks))]
-			}
-			if r.Intn(30) == 0 {
-				p[r.Intn(len(p))] = byte(r.Intn(256))
-			}
-			if r.Intn(30) == 0 {
-				p = make([]byte, r.Intn(50))
-				r.Read(p)
-			}
-			patterns = append(patterns, string(p))
-		}
+		patterns := anyPatterns(r)
 		m, e := Build(patterns)
 		seen[e]++
 		want, _, _ := Check(patterns)

@@ -5,6 +5,7 @@ import (
 	"munch/api"
 	"munch/codec"
 	"munch/machine"
+	"munch/pack"
 	"munch/pattern"
 	"munch/scan"
 	"munch/table"
@@ -46,7 +47,17 @@ func (x *Lexer) Scan(text string) ([]api.Token, api.Errno) { return scan.Cut(&x.
 func Build(patterns []string) (api.Machine, api.Errno) { return machine.Build(patterns) }
 
 // Pack packs a machine's rows (P10).
-func Pack(m api.Machine) (api.Tables, api.Errno) { return api.Tables{}, api.OK }
+func Pack(m api.Machine) (api.Tables, api.Errno) { return pack.Tables(&m) }
 
 // Generate makes a file of a list of patterns (P11).
-func Generate(patterns []string) (string, api.Errno) { return "", api.OK }
+func Generate(patterns []string) (string, api.Errno) {
+	m, e := machine.Build(patterns)
+	if e != api.OK {
+		return "", e
+	}
+	t, e := pack.Tables(&m)
+	if e != api.OK {
+		return "", e
+	}
+	return codec.Encode(&t)
+}

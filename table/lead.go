@@ -30,7 +30,8 @@ func Label(t *api.Tables, state int) int {
 	return t.Label[state]
 }
 
-func copyOf(numbers []int) []int {
+// CopyList answers the same numbers in a list of their own.
+func CopyList(numbers []int) []int {
 	fresh := make([]int, len(numbers))
 	copy(fresh, numbers)
 	return fresh
@@ -40,11 +41,11 @@ func copyOf(numbers []int) []int {
 func Copy(t *api.Tables) api.Tables {
 	var fresh api.Tables
 	fresh.Rules = t.Rules
-	fresh.Class = copyOf(t.Class)
-	fresh.Label = copyOf(t.Label)
-	fresh.Base = copyOf(t.Base)
-	fresh.Def = copyOf(t.Def)
-	fresh.Check = copyOf(t.Check)
-	fresh.Next = copyOf(t.Next)
+	fresh.Class = CopyList(t.Class)
+	fresh.Label = CopyList(t.Label)
+	fresh.Base = CopyList(t.Base)
+	fresh.Def = CopyList(t.Def)
+	fresh.Check = CopyList(t.Check)
+	fresh.Next = CopyList(t.Next)
 	return fresh
 }

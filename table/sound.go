@@ -1,4 +1,4 @@
-// Package table: what tables are sound, and where they lead.
+// Package table: which machines and tables are sound, and where tables lead.
 package table
 
 import "munch/api"
@@ -33,8 +33,8 @@ func within(numbers []int, least int, most int) bool {
 	return true
 }
 
-// SoundHead tells whether Rules, Class and Label are as in a sound machine.
-func SoundHead(rules int, class []int, label []int) bool {
+// soundHead tells whether Rules, Class and Label are as in a sound machine.
+func soundHead(rules int, class []int, label []int) bool {
 	if rules < 1 || rules > api.MaxRules {
 		return false
 	}
@@ -45,6 +45,19 @@ func SoundHead(rules int, class []int, label []int) bool {
 		return false
 	}
 	return within(label, api.None, rules-1)
+}
+
+// SoundMachine tells whether a machine is sound.
+func SoundMachine(m *api.Machine) bool {
+	if !soundHead(m.Rules, m.Class, m.Label) {
+		return false
+	}
+	states := len(m.Label)
+	classes := Classes(m.Class)
+	if len(m.Next) != states*classes {
+		return false
+	}
+	return within(m.Next, api.None, states-1)
 }
 
 // soundLengths tells whether there is a number for each state and for each cell, and not too many cells.
@@ -87,7 +100,7 @@ func soundCells(t *api.Tables, classes int) bool {
 
 // Sound tells whether tables are sound.
 func Sound(t *api.Tables) bool {
-	if !SoundHead(t.Rules, t.Class, t.Label) {
+	if !soundHead(t.Rules, t.Class, t.Label) {
 		return false
 	}
 	if !soundLengths(t) {
